@@ -1,0 +1,1 @@
+"""Gapscribe: programs that are never broken."""
