@@ -1,6 +1,9 @@
 """Forms that several test files draw on."""
 
+import random
+
 from gapscribe.forms import GAP
+from gapscribe.places import form_at, places
 
 NUM = ("num", 7, ())
 YES = ("truth", True, ())
@@ -89,3 +92,145 @@ def bush(many):
         pairs = [("call", None, (row[k], row[k + 1])) for k in range(0, len(row) - 1, 2)]
         row = pairs + row[len(pairs) * 2:]
     return row[0]
+
+
+def grown(chance, many):
+    """A tree of at most `many` forms (from 1 on), by chance, with names that are often bound twice."""
+    words = [word for word in MANY_PARTS if MANY_PARTS[word] < many]
+    word = chance.choice(words)
+    names = [chance.choice("xyf") for number in range(2)]
+    notes = {
+        "odd": "then", "num": chance.randrange(3), "truth": chance.random() < 0.5, "name": names[0], "fn": names[0],
+        "rec": tuple(names), "let": names[0],
+    }
+    left = many - 1
+    parts = []
+    for number in range(MANY_PARTS[word]):
+        still = MANY_PARTS[word] - number - 1
+        most = left - still
+        parts.append(grown(chance, most if not still else chance.randint(1, most)))
+        left -= size(parts[-1])
+    return (word, notes.get(word), tuple(parts))
+
+
+def size(tree):
+    return len(places(tree))
+
+
+def grown_trees(seed, many, most):
+    """As many trees, each of at most `most` forms, always the same ones for a seed."""
+    chance = random.Random(seed)
+    return [grown(chance, chance.randint(1, most)) for number in range(many)]
+
+
+class Anything:
+    """Says that it is like everything, and can't be looked up."""
+
+    __hash__ = None
+
+    def __eq__(self, other):
+        return True
+
+
+class Refusing:
+    """Can be neither likened, nor shown, nor taken for true or false."""
+
+    __hash__ = None
+
+    def __eq__(self, other):
+        raise RuntimeError
+
+    def __bool__(self):
+        raise RuntimeError
+
+    def __repr__(self):
+        raise RuntimeError
+
+
+NAMES = ["x", "_", "abcdefgh", "lets"]
+ODDS = ["then", "=", "007", "!" * 60]
+GOOD_NOTES = {
+    "gap": [None], "plus": [None], "minus": [None], "less": [None], "call": [None], "if": [None],
+    "odd": ODDS,
+    "num": [0, 1, 42, 10 ** 18 - 1],
+    "truth": [True, False],
+    "name": NAMES, "fn": NAMES, "let": NAMES,
+    "rec": [("f", "x"), ("x", "x"), ("abcdefgh", "_")],
+}
+
+OF_NO_WORD = [
+    1.0, 0.0, 10 ** 18, -1, "", "()", "a b", "x\n", [], ["f", "x"], {}, {"x"}, (), ("f",),
+    ("f", "x", "y"), ("f", 1), (1, "x"), ("let", "x"), ("f", "let"), ("f", None), (None, None),
+    ["f"], b"x", object(), str, Anything(), Refusing(), (Anything(), Anything()), (["f"], "x"),
+    10 ** 5000, GAP, (GAP, GAP),
+]
+BAD_NOTES = {
+    "odd": ["x", "let", "?", "+", "7", "0", "9" * 18, "!" * 61, None, 7, True, ("then",)],
+    "num": [-1, 10 ** 18, True, False, "0", "7", None, (7,), 7.0],
+    "truth": [0, 1, None, "yes", "no", "True", (True,), 1.0],
+    "name": ["let", "no", "X", "abcdefghi", "x1", None, 7, True, ("x",), ("f", "x")],
+    "rec": ["x", "fx", None, 7, True, [("f", "x")], (("f", "x"),), ("f", "X"), ("x1", "x"), ("f", "")],
+}
+BAD_NOTES["fn"] = BAD_NOTES["name"]
+BAD_NOTES["let"] = BAD_NOTES["name"]
+for plain in ("gap", "plus", "minus", "less", "call", "if"):
+    BAD_NOTES[plain] = ["x", "then", "None", 0, 7, True, False, ("f", "x")]
+
+NO_WORDS = [
+    None, True, False, 0, 1, 2, 1.0, "", "?", "Gap", "GAP", "gap ", " gap", "gap\n", "gaps", "ga", "nums",
+    "in", "then", "else", "yes", "no", "x", "+", "true", "int", (), ("gap",), ("num",), GAP, [], ["gap"],
+    {}, {"gap": 0}, {"gap"}, b"gap", object(), str, Anything(), Refusing(), 10 ** 5000,
+]
+
+
+def with_parts(form, parts):
+    return (form[0], form[1], parts)
+
+
+def wrong_things():
+    """Things that are no forms, each for another reason."""
+    wrong = [
+        None, True, False, 0, 7, "gap", "?", "", (), [], {}, ("gap",), ("gap", None), ("gap", ()),
+        ("gap", None, (), ()), ("gap", None, [], ()), ("gap", None, None), ("gap", None, ""),
+        ("gap", None, {}), ("gap", None, 0), ["gap", None, ()], "gap", b"gap", ((), None, ()),
+        object(), str, Anything(), Refusing(), (Anything(), Anything(), Anything()),
+    ]
+    wrong += [(word, None, ()) for word in NO_WORDS]
+    for form in ONE_OF_EACH:
+        wrong += [
+            list(form), form[:2], form + (None,), form + ((),), with_parts(form, list(form[2])),
+            with_parts(form, form[2] + (GAP,)), with_parts(form, form[2] + (GAP, GAP)),
+            with_parts(form, None),
+        ]
+        if form[2]:
+            wrong += [
+                with_parts(form, form[2][:-1]), with_parts(form, form[2][1:]), with_parts(form, ()),
+                with_parts(form, GAP[:len(form[2])]),
+            ]
+        wrong += [(form[0], note, form[2]) for note in BAD_NOTES[form[0]] + OF_NO_WORD]
+    return wrong
+
+
+def around(thing):
+    """The thing deep within trees that are else forms, at each part of each word."""
+    for form in ONE_OF_EACH:
+        for number in range(len(form[2])):
+            parts = form[2][:number] + (thing,) + form[2][number + 1:]
+            yield ("let", "x", (NUM, ("if", None, (YES, with_parts(form, parts), ODD))))
+
+
+FAR = [10 ** 6, 10 ** 18, 10 ** 30, 10 ** 5000]
+BELOW = [-1, -2, -3, -4, -10 ** 18]
+
+
+def no_places(tree):
+    """Places that the tree has not: a wrong number at the end of each place, at the first, and in the midst."""
+    told = places(tree)
+    deepest = max(told, key=len)
+    for place in told:
+        many = len(form_at(tree, place)[2])
+        for wrong in [many, many + 1] + FAR + BELOW:
+            yield place + (wrong,)
+            yield place + (wrong, 0)
+            yield place + (wrong, 0, 1)
+            yield place + (wrong,) + deepest[len(place) + 1:]

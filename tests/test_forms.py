@@ -2,103 +2,10 @@ import unittest
 
 from gapscribe.errors import NoForm
 from gapscribe.forms import GAP, bare, is_form, many_parts
-from tests.samples import ALL_WORDS, MANY_PARTS, NAME, NUM, ODD, ONE_OF_EACH, YES, bush, chain
-
-
-class Anything:
-    """Says that it is like everything, and can't be looked up."""
-
-    __hash__ = None
-
-    def __eq__(self, other):
-        return True
-
-
-class Refusing:
-    """Can be neither likened, nor shown, nor taken for true or false."""
-
-    __hash__ = None
-
-    def __eq__(self, other):
-        raise RuntimeError
-
-    def __bool__(self):
-        raise RuntimeError
-
-    def __repr__(self):
-        raise RuntimeError
-
-
-NAMES = ["x", "_", "abcdefgh", "lets"]
-ODDS = ["then", "=", "007", "!" * 60]
-GOOD_NOTES = {
-    "gap": [None], "plus": [None], "minus": [None], "less": [None], "call": [None], "if": [None],
-    "odd": ODDS,
-    "num": [0, 1, 42, 10 ** 18 - 1],
-    "truth": [True, False],
-    "name": NAMES, "fn": NAMES, "let": NAMES,
-    "rec": [("f", "x"), ("x", "x"), ("abcdefgh", "_")],
-}
-
-OF_NO_WORD = [
-    1.0, 0.0, 10 ** 18, -1, "", "()", "a b", "x\n", [], ["f", "x"], {}, {"x"}, (), ("f",),
-    ("f", "x", "y"), ("f", 1), (1, "x"), ("let", "x"), ("f", "let"), ("f", None), (None, None),
-    ["f"], b"x", object(), str, Anything(), Refusing(), (Anything(), Anything()), (["f"], "x"),
-    10 ** 5000, GAP, (GAP, GAP),
-]
-BAD_NOTES = {
-    "odd": ["x", "let", "?", "+", "7", "0", "9" * 18, "!" * 61, None, 7, True, ("then",)],
-    "num": [-1, 10 ** 18, True, False, "0", "7", None, (7,), 7.0],
-    "truth": [0, 1, None, "yes", "no", "True", (True,), 1.0],
-    "name": ["let", "no", "X", "abcdefghi", "x1", None, 7, True, ("x",), ("f", "x")],
-    "rec": ["x", "fx", None, 7, True, [("f", "x")], (("f", "x"),), ("f", "X"), ("x1", "x"), ("f", "")],
-}
-BAD_NOTES["fn"] = BAD_NOTES["name"]
-BAD_NOTES["let"] = BAD_NOTES["name"]
-for plain in ("gap", "plus", "minus", "less", "call", "if"):
-    BAD_NOTES[plain] = ["x", "then", "None", 0, 7, True, False, ("f", "x")]
-
-NO_WORDS = [
-    None, True, False, 0, 1, 2, 1.0, "", "?", "Gap", "GAP", "gap ", " gap", "gap\n", "gaps", "ga", "nums",
-    "in", "then", "else", "yes", "no", "x", "+", "true", "int", (), ("gap",), ("num",), GAP, [], ["gap"],
-    {}, {"gap": 0}, {"gap"}, b"gap", object(), str, Anything(), Refusing(), 10 ** 5000,
-]
-
-
-def with_parts(form, parts):
-    return (form[0], form[1], parts)
-
-
-def wrong_things():
-    """Things that are no forms, each for another reason."""
-    wrong = [
-        None, True, False, 0, 7, "gap", "?", "", (), [], {}, ("gap",), ("gap", None), ("gap", ()),
-        ("gap", None, (), ()), ("gap", None, [], ()), ("gap", None, None), ("gap", None, ""),
-        ("gap", None, {}), ("gap", None, 0), ["gap", None, ()], "gap", b"gap", ((), None, ()),
-        object(), str, Anything(), Refusing(), (Anything(), Anything(), Anything()),
-    ]
-    wrong += [(word, None, ()) for word in NO_WORDS]
-    for form in ONE_OF_EACH:
-        wrong += [
-            list(form), form[:2], form + (None,), form + ((),), with_parts(form, list(form[2])),
-            with_parts(form, form[2] + (GAP,)), with_parts(form, form[2] + (GAP, GAP)),
-            with_parts(form, None),
-        ]
-        if form[2]:
-            wrong += [
-                with_parts(form, form[2][:-1]), with_parts(form, form[2][1:]), with_parts(form, ()),
-                with_parts(form, GAP[:len(form[2])]),
-            ]
-        wrong += [(form[0], note, form[2]) for note in BAD_NOTES[form[0]] + OF_NO_WORD]
-    return wrong
-
-
-def around(thing):
-    """The thing deep within trees that are else forms, at each part of each word."""
-    for form in ONE_OF_EACH:
-        for number in range(len(form[2])):
-            parts = form[2][:number] + (thing,) + form[2][number + 1:]
-            yield ("let", "x", (NUM, ("if", None, (YES, with_parts(form, parts), ODD))))
+from tests.samples import (
+    ALL_WORDS, BAD_NOTES, GOOD_NOTES, MANY_PARTS, NAME, NO_WORDS, OF_NO_WORD, ONE_OF_EACH, around, bush, chain,
+    wrong_things,
+)
 
 
 class FormTest(unittest.TestCase):

@@ -1,6 +1,7 @@
 """The rules on the form of the package's code, as far as a small check can see them."""
 
 import ast
+import builtins
 import pathlib
 import re
 import unittest
@@ -28,6 +29,16 @@ NO_WORDS = (
 )
 NOWHERE = ("register", "mro", "elements", "open", "input", "version_info", "with_traceback", "add_note")
 METHODS = ("__init__", "__eq__", "__repr__", "__str__", "__len__")
+METHODS_OF_VALUES = set(
+    "append clear copy count endswith extend find get index insert isalnum isalpha isdigit islower isspace isupper items"
+    " join keys ljust lower lstrip partition pop remove replace reverse rfind rjust rpartition rsplit rstrip setdefault"
+    " split splitlines startswith strip update upper values zfill bit_length".split()
+)
+TAKEN = {name for kind in (str, int, list, dict, set, bytes) for name in dir(kind)}
+METHODS_FREE = METHODS_OF_VALUES | {"add", "discard"}
+VALUES_FREE = set("count index title find get join lower upper split strip copy add".split())
+WALKED = ("zip", "enumerate", "reversed", "range", "items", "keys", "values")
+WALKERS = ("list", "tuple", "dict", "sorted", "sum", "any", "all", "enumerate", "zip", "min", "max", "join")
 
 
 def bound_names(tree):
@@ -45,6 +56,26 @@ def bound_names(tree):
         elif isinstance(node, ast.Name) and isinstance(node.ctx, ast.Store):
             names.add(node.id)
     return names
+
+
+def called(node):
+    """The name of the function or method that a call calls."""
+    return getattr(node.func, "id", getattr(node.func, "attr", None))
+
+
+def walked_at_once(tree):
+    """All that stands behind the `in` of a loop, or as the first thing in what walks it."""
+    for node in ast.walk(tree):
+        if isinstance(node, (ast.For, ast.comprehension)):
+            yield node.iter
+        elif isinstance(node, ast.Call) and called(node) == "zip":
+            yield from node.args
+        elif isinstance(node, ast.Call) and called(node) in WALKERS:
+            yield from node.args[:1]
+
+
+def class_parts(tree, kind):
+    return [part for node in tree.body if isinstance(node, ast.ClassDef) for part in node.body if isinstance(part, kind)]
 
 
 class LanguageTest(unittest.TestCase):
@@ -143,6 +174,56 @@ class LanguageTest(unittest.TestCase):
                 elif isinstance(node, ast.Assign):
                     names += [target.id for target in node.targets]
             self.assertEqual(sorted(names), sorted(set(names)), path.name)
+
+    def test_methods_and_values(self):
+        trees = self.trees.values()
+        own = {part.name for tree in trees for part in class_parts(tree, ast.FunctionDef)} - set(METHODS)
+        values = set()
+        for where, node in self.nodes():
+            if isinstance(node, ast.Attribute) and not isinstance(node.ctx, ast.Load):
+                self.assertIsInstance(node.value, ast.Name, where)
+                values.add(node.attr)
+            if isinstance(node, ast.Call) and isinstance(node.func, ast.Attribute):
+                self.assertIn(node.func.attr, METHODS_OF_VALUES | own | {"__init__"}, where)
+        self.assertEqual(own & values, set())
+        self.assertEqual((own & TAKEN) - METHODS_FREE, set())
+        self.assertEqual((values & TAKEN) - VALUES_FREE, set())
+
+    def test_no_method_stands_twice(self):
+        for where, node in self.nodes():
+            if isinstance(node, ast.ClassDef):
+                names = [part.name for part in node.body if isinstance(part, ast.FunctionDef)]
+                self.assertEqual(sorted(names), sorted(set(names)), where)
+
+    def test_walked_at_once(self):
+        for path, tree in self.trees.items():
+            walked = list(walked_at_once(tree))
+            for node in ast.walk(tree):
+                if isinstance(node, ast.Call) and called(node) in WALKED:
+                    self.assertIn(node, walked, f"{path.name}:{node.lineno}")
+
+    def test_parameters_and_locals(self):
+        for path, tree in self.trees.items():
+            no_locals = set(dir(builtins)) | {node.name for node in tree.body if isinstance(node, ast.ClassDef)}
+            for node in tree.body:
+                if isinstance(node, ast.ImportFrom):
+                    no_locals |= {alias.name for alias in node.names}
+            for node in ast.walk(tree):
+                if isinstance(node, ast.arg):
+                    self.assertNotIn(node.arg, no_locals, f"{path.name}:{node.lineno}")
+                if isinstance(node, ast.Name) and isinstance(node.ctx, ast.Store):
+                    self.assertNotIn(node.id, no_locals, f"{path.name}:{node.lineno}")
+
+    def test_no_two_files_draw_from_one_another(self):
+        drawn = {}
+        for path, tree in self.trees.items():
+            rows = [node for node in tree.body if isinstance(node, ast.ImportFrom)]
+            drawn[path.stem] = {row.module.split(".")[1] for row in rows}
+        while drawn:
+            ready = [name for name in drawn if not drawn[name] & set(drawn)]
+            self.assertTrue(ready, sorted(drawn))
+            for name in ready:
+                drawn.pop(name)
 
 
 if __name__ == "__main__":

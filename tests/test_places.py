@@ -3,24 +3,11 @@ import unittest
 from gapscribe.errors import NoPlace
 from gapscribe.forms import GAP, is_form
 from gapscribe.places import form_at, gaps, places, with_at
-from tests.samples import ALL_WORDS, ALL_WORDS_GAPS, ALL_WORDS_PLACES, NAME, NUM, ODD, ONE_OF_EACH, YES, bush, chain
+from tests.samples import (
+    ALL_WORDS, ALL_WORDS_GAPS, ALL_WORDS_PLACES, NAME, NUM, ODD, ONE_OF_EACH, YES, bush, chain, no_places,
+)
 
 TREES = ONE_OF_EACH + [ALL_WORDS, chain(69), bush(249)]
-FAR = [10 ** 6, 10 ** 18, 10 ** 30, 10 ** 5000]
-BELOW = [-1, -2, -3, -4, -10 ** 18]
-
-
-def no_places(tree):
-    """Places that the tree has not: a wrong number at the end of each place, at the first, and in the midst."""
-    told = places(tree)
-    deepest = max(told, key=len)
-    for place in told:
-        many = len(form_at(tree, place)[2])
-        for wrong in [many, many + 1] + FAR + BELOW:
-            yield place + (wrong,)
-            yield place + (wrong, 0)
-            yield place + (wrong, 0, 1)
-            yield place + (wrong,) + deepest[len(place) + 1:]
 
 
 class PlacesTest(unittest.TestCase):
