@@ -30,8 +30,8 @@ NO_WORDS = (
 NOWHERE = ("register", "mro", "elements", "open", "input", "version_info", "with_traceback", "add_note")
 METHODS = ("__init__", "__eq__", "__repr__", "__str__", "__len__")
 METHODS_OF_VALUES = set(
-    "append clear copy count endswith extend find get index insert isalnum isalpha isdigit islower isspace isupper items"
-    " join keys ljust lower lstrip partition pop remove replace reverse rfind rjust rpartition rsplit rstrip setdefault"
+    "append clear copy count endswith extend find get index insert isalnum isalpha isdigit islower isspace isupper"
+    " items join keys ljust lower lstrip partition pop remove replace reverse rfind rjust rpartition rsplit rstrip setdefault"
     " split splitlines startswith strip update upper values zfill bit_length".split()
 )
 TAKEN = {name for kind in (str, int, list, dict, set, bytes) for name in dir(kind)}
@@ -74,8 +74,9 @@ def walked_at_once(tree):
             yield from node.args[:1]
 
 
-def class_parts(tree, kind):
-    return [part for node in tree.body if isinstance(node, ast.ClassDef) for part in node.body if isinstance(part, kind)]
+def methods_of(tree):
+    classes = [node for node in tree.body if isinstance(node, ast.ClassDef)]
+    return {part.name for node in classes for part in node.body if isinstance(part, ast.FunctionDef)} - set(METHODS)
 
 
 class LanguageTest(unittest.TestCase):
@@ -176,8 +177,7 @@ class LanguageTest(unittest.TestCase):
             self.assertEqual(sorted(names), sorted(set(names)), path.name)
 
     def test_methods_and_values(self):
-        trees = self.trees.values()
-        own = {part.name for tree in trees for part in class_parts(tree, ast.FunctionDef)} - set(METHODS)
+        own = {name for tree in self.trees.values() for name in methods_of(tree)}
         values = set()
         for where, node in self.nodes():
             if isinstance(node, ast.Attribute) and not isinstance(node.ctx, ast.Load):

@@ -407,7 +407,8 @@ class RowToTest(unittest.TestCase):
 
     def test_great_trees(self):
         deep = [chain(69), chain(69, NUM), chain(90, YES), chain(91), chain(60, bush(21))]
-        broad = [("fn", "x", (bush(249),)), bush(249), behind(bush(249), [(place, Fill(ONE)) for place in gaps(bush(249))])]
+        full = behind(bush(249), [(place, Fill(ONE)) for place in gaps(bush(249))])
+        broad = [("fn", "x", (bush(249),)), bush(249), full]
         for tree in deep + broad:
             for other in deep + broad:
                 self.leads(tree, other, few(tree, other))
