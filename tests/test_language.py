@@ -31,8 +31,8 @@ NOWHERE = ("register", "mro", "elements", "open", "input", "version_info", "with
 METHODS = ("__init__", "__eq__", "__repr__", "__str__", "__len__")
 METHODS_OF_VALUES = set(
     "append clear copy count endswith extend find get index insert isalnum isalpha isdigit islower isspace isupper"
-    " items join keys ljust lower lstrip partition pop remove replace reverse rfind rjust rpartition rsplit rstrip setdefault"
-    " split splitlines startswith strip update upper values zfill bit_length".split()
+    " items join keys ljust lower lstrip partition pop remove replace reverse rfind rjust rpartition rsplit rstrip"
+    " setdefault split splitlines startswith strip update upper values zfill bit_length".split()
 )
 TAKEN = {name for kind in (str, int, list, dict, set, bytes) for name in dir(kind)}
 METHODS_FREE = METHODS_OF_VALUES | {"add", "discard"}
