@@ -7,8 +7,50 @@ from gapscribe.places import form_at, places
 
 NUM = ("num", 7, ())
 YES = ("truth", True, ())
+NO = ("truth", False, ())
 NAME = ("name", "x", ())
 ODD = ("odd", "x+1", ())
+
+
+def num(number):
+    return ("num", number, ())
+
+
+def name(text):
+    return ("name", text, ())
+
+
+def plus(left, right):
+    return ("plus", None, (left, right))
+
+
+def minus(left, right):
+    return ("minus", None, (left, right))
+
+
+def less(left, right):
+    return ("less", None, (left, right))
+
+
+def call(first, second):
+    return ("call", None, (first, second))
+
+
+def when(first, second, third):
+    return ("if", None, (first, second, third))
+
+
+def fn(bound, part):
+    return ("fn", bound, (part,))
+
+
+def rec(first, second, part):
+    return ("rec", (first, second), (part,))
+
+
+def let(bound, first, second):
+    return ("let", bound, (first, second))
+
 
 # One form of each of the thirteen words, with parts that differ from one another.
 ONE_OF_EACH = [
@@ -121,6 +163,46 @@ def grown_trees(seed, many, most):
     """As many trees, each of at most `most` forms, always the same ones for a seed."""
     chance = random.Random(seed)
     return [grown(chance, chance.randint(1, most)) for number in range(many)]
+
+
+def shares(chance, many, parts):
+    """`many` dealt out to as many parts, at least 1 to each."""
+    cuts = sorted(chance.sample(range(1, many), parts - 1))
+    return [high - low for low, high in zip([0] + cuts, cuts + [many])]
+
+
+def busy(chance, many, names=()):
+    """A tree of just `many` forms, by chance, in which most names are bound and few forms are odd."""
+    if many == 1:
+        leaves = [GAP, num(chance.randrange(3)), chance.choice([YES, NO]), name(chance.choice("xyfg"))]
+        leaves += [name(bound) for bound in names] * 2 + ([ODD] if chance.random() < 0.2 else [])
+        return chance.choice(leaves)
+    word = chance.choice([word for word in MANY_PARTS if 1 <= MANY_PARTS[word] < many])
+    texts = [chance.choice("xyfg") for number in range(2)]
+    note = {"fn": texts[0], "rec": tuple(texts), "let": texts[0]}.get(word)
+    parts = []
+    for number, share in enumerate(shares(chance, many - 1, MANY_PARTS[word])):
+        # One sign each, so that a note is a row of the names it binds.
+        bound = () if word == "let" and number == 0 else tuple(note or ())
+        parts.append(busy(chance, share, tuple(names) + bound))
+    return (word, note, tuple(parts))
+
+
+def busy_trees(seed, many, least, most):
+    """As many trees, each of `least` to `most` forms, always the same ones for a seed."""
+    chance = random.Random(seed)
+    return [busy(chance, chance.randint(least, most)) for number in range(many)]
+
+
+def check_own_lists(test, tell, right):
+    """What is told is right, and what the asker does to one list that was told shows in no other one."""
+    first, second = tell(), tell()
+    test.assertIsNot(first, second)
+    first.append("more")
+    first[0] = "other"
+    test.assertEqual(second, right)
+    second.clear()
+    test.assertEqual(tell(), right)
 
 
 class Anything:

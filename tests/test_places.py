@@ -4,7 +4,8 @@ from gapscribe.errors import NoPlace
 from gapscribe.forms import GAP, is_form
 from gapscribe.places import form_at, gaps, places, with_at
 from tests.samples import (
-    ALL_WORDS, ALL_WORDS_GAPS, ALL_WORDS_PLACES, NAME, NUM, ODD, ONE_OF_EACH, YES, bush, chain, no_places,
+    ALL_WORDS, ALL_WORDS_GAPS, ALL_WORDS_PLACES, NAME, NUM, ODD, ONE_OF_EACH, YES, bush, chain, check_own_lists,
+    no_places,
 )
 
 TREES = ONE_OF_EACH + [ALL_WORDS, chain(69), bush(249)]
@@ -60,13 +61,7 @@ class PlacesTest(unittest.TestCase):
 
     def test_lists_are_the_askers_own(self):
         for asked, right in ((places, ALL_WORDS_PLACES), (gaps, ALL_WORDS_GAPS)):
-            first, second = asked(ALL_WORDS), asked(ALL_WORDS)
-            self.assertIsNot(first, second)
-            first.append("more")
-            first[0] = "other"
-            self.assertEqual(second, right)
-            second.clear()
-            self.assertEqual(asked(ALL_WORDS), right)
+            check_own_lists(self, lambda: asked(ALL_WORDS), right)
 
     def test_empty_lists_are_the_askers_own(self):
         gaps(NUM).append(())

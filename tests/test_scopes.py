@@ -5,21 +5,9 @@ from gapscribe.forms import GAP
 from gapscribe.places import places
 from gapscribe.scopes import binder, binding_at, names_at
 from tests.samples import (
-    ALL_WORDS, ALL_WORDS_PLACES, NAME, NUM, ODD, ONE_OF_EACH, YES, bush, chain, grown_trees, no_places,
+    ALL_WORDS, ALL_WORDS_PLACES, NAME, NUM, ODD, ONE_OF_EACH, YES, bush, chain, check_own_lists, fn, grown_trees, let,
+    no_places, rec,
 )
-
-
-def fn(name, part):
-    return ("fn", name, (part,))
-
-
-def rec(first, second, part):
-    return ("rec", (first, second), (part,))
-
-
-def let(name, first, second):
-    return ("let", name, (first, second))
-
 
 # Trees, and for each of their places the bindings there: names, and the places of the forms that bind them.
 TREES = [
@@ -166,12 +154,7 @@ class ScopesTest(unittest.TestCase):
         for tree, told in TREES:
             for place in told:
                 names = [name for name, where in told[place]]
-                first, second = names_at(tree, place), names_at(tree, place)
-                self.assertIsNot(first, second)
-                first.append("more")
-                first[0] = "other"
-                self.assertEqual(second, names)
-                second.clear()
+                check_own_lists(self, lambda: names_at(tree, place), names)
                 self.holds(tree, place, told[place])
 
     def test_nothing_hangs_on_what_was_asked_ahead(self):
