@@ -1,6 +1,9 @@
 """Forms that several test files draw on."""
 
+import contextlib
+import inspect
 import random
+import sys
 
 from gapscribe.forms import GAP
 from gapscribe.places import form_at, places
@@ -194,6 +197,75 @@ def busy_trees(seed, many, least, most):
     return [busy(chance, chance.randint(least, most)) for number in range(many)]
 
 
+NUMBER, TRUTH = ("num",), ("truth",)
+STEP = ("to", NUMBER, NUMBER)
+KINDS = [NUMBER, NUMBER, TRUTH, STEP, ("to", NUMBER, TRUTH), ("to", STEP, NUMBER), ("to", TRUTH, STEP)]
+
+
+def fitting_leaf(chance, kind, around):
+    """A gap, or a form without parts that gives this kind; a function where there is none."""
+    names = [text for text, bound in dict(around).items() if bound == kind]
+    leaves = [GAP] + [name(text) for text in names] * 3
+    if kind == NUMBER:
+        leaves += [num(chance.randrange(4)), num(chance.choice([5, 10 ** 18 - 1]))]
+    elif kind == TRUTH:
+        leaves += [YES, NO]
+    elif not names:
+        leaves += [fn("y", fitting_leaf(chance, kind[2], around + (("y", kind[1]),)))] * 2
+    return chance.choice(leaves)
+
+
+def counting_down(chance, deep, around):
+    """A function that calls itself until its number is below 1."""
+    within = around + (("f", STEP), ("n", NUMBER))
+    further = call(name("f"), minus(name("n"), num(1)))
+    make = chance.choice([lambda left, right: right, plus, minus, lambda left, right: let("x", left, right)])
+    beside = fitting(chance, min(deep, 1), NUMBER, within)
+    last = fitting(chance, min(deep, 1), NUMBER, within)
+    return rec("f", "n", when(less(name("n"), num(1)), last, make(beside, further)))
+
+
+def fitting(chance, deep, kind, around=()):
+    """A tree without marks that gives this kind, of about so many levels, with gaps; `around` has pairs of bound names
+    and their kinds."""
+    if deep < 1 or chance.random() < 0.1:
+        return fitting_leaf(chance, kind, around)
+    other, text = chance.choice(KINDS), chance.choice("xyg")
+
+    def part(wanted, *bound):
+        return fitting(chance, deep - 1, wanted, around + bound)
+
+    makes = [
+        lambda: when(part(TRUTH), part(kind), part(kind)),
+        lambda: let(text, part(other), part(kind, (text, other))),
+        lambda: let(text, part(other), part(kind, (text, other))),
+        lambda: call(part(("to", other, kind)), part(other)),
+        lambda: call(part(("to", other, kind)), part(other)),
+    ]
+    if kind == NUMBER:
+        makes += [lambda: plus(part(NUMBER), part(NUMBER)), lambda: minus(part(NUMBER), part(NUMBER))]
+        makes += [lambda: call(counting_down(chance, deep - 1, around), num(chance.randrange(5)))]
+    elif kind == TRUTH:
+        makes += [lambda: less(part(NUMBER), part(NUMBER))] * 3
+    else:
+        makes += [lambda: fn(text, part(kind[2], (text, kind[1])))] * 4
+        makes += [lambda: rec("f", text, part(kind[2], ("f", kind), (text, kind[1])))]
+    if kind == STEP:
+        makes += [lambda: counting_down(chance, deep - 1, around)] * 2
+    return chance.choice(makes)()
+
+
+def fitting_trees(seed, many, deep, most):
+    """As many trees without marks, each of at most `most` forms, always the same ones for a seed."""
+    chance = random.Random(seed)
+    told = []
+    while len(told) < many:
+        tree = fitting(chance, deep, chance.choice([NUMBER, NUMBER, TRUTH, STEP]))
+        if 1 < size(tree) <= most:
+            told.append(tree)
+    return told
+
+
 def check_own_lists(test, tell, right):
     """What is told is right, and what the asker does to one list that was told shows in no other one."""
     first, second = tell(), tell()
@@ -316,3 +388,41 @@ def no_places(tree):
             yield place + (wrong, 0)
             yield place + (wrong, 0, 1)
             yield place + (wrong,) + deepest[len(place) + 1:]
+
+
+def thing(text):
+    """A thing, written as figures, `yes`, `no`, or `#` and the number of a row."""
+    if text in ("yes", "no"):
+        return ("truth", text == "yes")
+    return ("row", int(text[1:])) if text[0] == "#" else ("num", int(text))
+
+
+def row(text):
+    """A row, written as its word and place (`/` or numbers with dots), its operands, and its around as `name=thing`,
+    with colons between these three."""
+    top, operands, pairs = (text + ": : ").split(":")[:3]
+    word, place = top.split()
+    numbers = () if place == "/" else tuple(int(number) for number in place.split("."))
+    around = [pair.split("=") for pair in pairs.split()]
+    return (word, numbers, [thing(part) for part in operands.split()], [(bound, thing(part)) for bound, part in around])
+
+
+def record(answer, steps, *rows):
+    """A record, of things and rows that are written so."""
+    return (thing(answer), [row(text) for text in rows], steps)
+
+
+def lists_in(told):
+    """Every list in a record."""
+    return [told[1]] + [part for made in told[1] for part in made[2:]]
+
+
+@contextlib.contextmanager
+def few_calls(many):
+    """While this lasts, no more calls than so many may be nested."""
+    kept = sys.getrecursionlimit()
+    sys.setrecursionlimit(len(inspect.stack(0)) + many)
+    try:
+        yield
+    finally:
+        sys.setrecursionlimit(kept)

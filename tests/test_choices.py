@@ -7,7 +7,7 @@ import unittest
 from gapscribe.forms import GAP
 from gapscribe.looks import blanked, looks
 from tests.samples import (
-    ALL_WORDS, NUM, ODD, YES, busy_trees, call, fn, grown_trees, let, name, plus, rec, size, when,
+    ALL_WORDS, NUM, ODD, YES, busy_trees, call, fn, grown_trees, let, name, plus, rec, when,
 )
 
 NUMBER = ("num",)
